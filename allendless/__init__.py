@@ -1,0 +1,1 @@
+"""allendless: a language that answers questions over all endless rows."""
