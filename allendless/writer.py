@@ -129,8 +129,11 @@ def _text_of(first):
             pieces.append(part)
             continue
         sort, thing, wanted = part
-        action = _kind_parts if sort == "kind" else WRITERS[thing[0]]
-        level, parts = action(thing)
+        if sort == "kind":
+            level, parts = _kind_parts(thing)
+        else:
+            action = WRITERS[thing[0]]
+            level, parts = action(thing)
         if level < wanted:
             parts = ("(", *parts, ")")
         todo.extend(parts[::-1])
