@@ -1,10 +1,12 @@
 """DOC.md [19] to [28], [39], [71], [72], [82] of contests, and the heading allendless/plain.py."""
 
+import itertools
 import unittest
 
 from allendless.kinds import with_children
 from allendless.plain import run_known, run_told, value_of
 from allendless.reader import read_term
+from allendless.trees import value_on
 from tests import simple
 from tests.making import Maker
 from tests.wrong import what_of
@@ -226,6 +228,65 @@ class QuantifierTest(unittest.TestCase):
         self.assertEqual(value(text)[0], 500)
         text = "least r of 2. repeat(7, fn n : num. n + count(r[n + 1]), 0)"
         self.assertEqual(value(text), simple_value(text))
+
+
+class TruthTest(unittest.TestCase):
+    """[27], [39], [82]: what quantifiers tell is what going through all beginnings tells."""
+
+    def values(self, tree, size, length):
+        """The beginnings of a length and the values of a tree on the rows that begin so."""
+        rows = [digits for digits in itertools.product(range(size), repeat=length)]
+        return [(digits, value_on(tree, ((digits, (0,)),))) for digits in rows]
+
+    def test_closed_ones(self):
+        for seed in range(150):
+            maker = Maker(seed)
+            size = maker.random.choice((2, 3))
+            tree = maker.tree((size,), [(i, 0) for i in range(4)], (0, 1, 1, 2), 3)
+            values = self.values(tree, size, 4)
+            number, truth = tree_term(tree), ("prim", "same", (tree_term(tree), ONE))
+            ones = [digits for digits, value in values if value == 1]
+            times = maker.random.randrange(1000)
+            for term, wanted in (
+                    (("some", "r", size, truth), int(bool(ones))), (("every", "r", size, truth), int(len(ones) == len(values))),
+                    (("least", "r", size, number), min(value for _, value in values)),
+                    (("greatest", "r", size, number), max(value for _, value in values)),
+                    (("share", "r", size, truth, ("number", times)), times * len(ones) // len(values))):
+                self.assertEqual(value_of(term)[0], wanted)
+            found = min(ones, default=(0,) * 4) + (0,)
+            for i, digit in enumerate(found):
+                self.assertEqual(value_of(("at", ("find", "r", size, truth), ("number", i)))[0], digit)
+
+    def test_worths(self):
+        for seed in range(150):
+            maker = Maker(seed)
+            size = maker.random.choice((2, 3))
+            tree = maker.tree((size,), [(i, 0) for i in range(4)], (0, 1, 2, 3, 4), 4)
+            sides = [maker.random.randrange(2) for _ in range(4)]
+            side = ("digit", 2, 0)
+            for i in range(4):
+                side = ("if", ("prim", "same", (("var", "m"), ("number", i))), ("digit", 2, sides[i]), side)
+            worths = dict(self.values(tree, size, 4))
+            for i in range(3, -1, -1):
+                best = min if sides[i] else max
+                worths = {digits[:i]: best(worths[digits[:i] + (d,)] for d in range(size)) for digits in worths}
+            self.assertEqual(value_of(("contest", "r", size, "m", side, tree_term(tree)))[0], worths[()])
+
+    def test_within_rows_from_outside(self):
+        body = "if r[0] then count(s[1]) + count(s[count(r[1])]) * 2 else count(r[2]) + count(s[0]) * count(r[1])"
+        for digits in itertools.product((0, 1), repeat=3):
+            rows = ((digits, (0,)),)
+            values = []
+            for others in itertools.product((0, 1), repeat=2):
+                text = f"fn r : rows 2. fn s : rows 2. {body}"
+                values.append(run_told(read_term(text), rows + ((others, (0,)),))[0])
+            for word, best in (("least", min), ("greatest", max)):
+                self.assertEqual(run_told(fn(f"{word} s of 2. {body}"), rows)[0], best(values))
+            for number in range(4):
+                wanted = [value == number for value in values]
+                for word, best in (("some", any), ("every", all)):
+                    self.assertEqual(run_told(fn(f"{word} s of 2. ({body}) = {number}"), rows)[0], int(best(wanted)))
+                self.assertEqual(run_told(fn(f"share s of 2 times (40). ({body}) = {number}"), rows)[0], 10 * sum(wanted))
 
 
 def simple_value(text):
