@@ -27,7 +27,7 @@ def run_file(path):
     environment = {**os.environ, "PYTHONPATH": ROOT, "PYTHONDONTWRITEBYTECODE": "1"}
     done = subprocess.run(
         [sys.executable, "-c", RUNNER, folder, os.path.basename(path), top], cwd=ROOT, env=environment,
-        stdin=subprocess.DEVNULL, capture_output=True, text=True)
+        stdin=subprocess.DEVNULL, capture_output=True, text=True, errors="replace")
     found = re.search(r"^counted (\d+) (\d+)$", done.stdout, re.MULTILINE)
     if found is None or done.returncode != 0:
         return path, 0, 1, done.stdout + done.stderr

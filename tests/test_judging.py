@@ -19,7 +19,7 @@ SCOPE = (
 RIGHT = (
     ("n", "num"), ("b", "few 2"), ("f", "num -> few 2"), ("0:1", "few 1"), ("8:9", "few 9"), ("7", "num"), ("n + k", "num"),
     ("n - k", "num"), ("n * k", "num"), ("n / k", "num"), ("n | k", "num"), ("n < k", "few 2"), ("n = k", "few 2"),
-    ("as 3 (n)", "few 3"), ("as 1 (n)", "few 1"), ("count(b)", "num"), ("count(c)", "num"), ("count(0:9)", "num"),
+    ("as 3 (n)", "few 3"), ("as 1 (n)", "few 1"), ("as 9 (n)", "few 9"), ("count(b)", "num"), ("count(c)", "num"), ("count(0:9)", "num"),
     ("if b then n else k", "num"), ("if b then f else f", "num -> few 2"), ("fn x : rows 2. n", "rows 2 -> num"),
     ("fn x : num. x", "num -> num"), ("f(n)", "few 2"), ("h(f)", "rows 2"), ("h(fn x : num. b)", "rows 2"), ("(n, b)", "num & few 2"),
     ("(f, (r, s))", "(num -> few 2) & (rows 2 & rows 3)"), ("first(p)", "num"), ("second(p)", "few 2"), ("repeat(n, g, k)", "num"),

@@ -38,7 +38,7 @@ class KindTest(unittest.TestCase):
             self.assertIs(is_kind(("to", NUM, kind)), True)
 
     def test_no_kinds(self):
-        for value in ((), ("few",), ("few", 0), ("few", 10), ("few", True), ("few", "2"), ("few", 2, 2), ("rows", 1), ("rows", 10),
+        for value in ((), ("few",), ("few", 0), ("few", 10), ("few", True), ("few", "2"), ("few", 2, 2), ("rows", 1), ("rows", 10), ("rows", 2, 2),
                       ("num", 1), ("to", NUM), ("to", NUM, NUM, NUM), ("both", NUM), "num", 1, None, True, (NUM,), (1, 2), ("nam",),
                       (("num",), NUM, NUM), (None,), ("few", None), ("few", (2,)), ("", NUM, NUM), ("num", ())):
             self.assertIs(is_kind(value), False, value)

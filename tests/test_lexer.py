@@ -61,6 +61,9 @@ class LexerTest(unittest.TestCase):
 
     def test_remarks(self):
         self.assertEqual(plain("a # b ! 00 A > # c\nd#"), ["a", "d"])
+        every = "".join(chr(number) for number in range(32, 127))
+        self.assertEqual(tokens_of("#" + every + "\nb")[0], ("word", "b", (2, 1)))
+        self.assertEqual(tokens_of("#" + every)[0], ("end", "", (1, 97)))
 
     def test_characters_that_begin_no_token(self):
         for sign in "ABZ_!\"$%';>?@\\^`{}~":

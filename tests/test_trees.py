@@ -157,6 +157,9 @@ class WorkTest(unittest.TestCase):
         tree = ask(0, 0, 1, ask(1, 0, end((1, 2)), 1))
         table = ((7, "not looked at"), (1, (0, 0)), (True, 5), ((1, 2), 9), ((1, (2, 2)), None))
         self.assertEqual(led(tree, table), ask(0, 0, end((0, 0)), ask(1, 0, 9, end((0, 0)))))
+        tree = ask(0, 0, end((1, (2, 3))), ask(1, 0, end(((1, 2), 3)), end((12, 3))))
+        table = (((1, (2, 3)), 4), (((1, 2), 3), 5), ((12, 3), 6), ((1, 23), 7))
+        self.assertEqual(led(tree, table), ask(0, 0, 4, ask(1, 0, 5, 6)))
         # Branches that are equal stay as they are.
         self.assertEqual(led(ask(0, 0, 1, 2), ((1, 3), (2, 3))), ask(0, 0, 3, 3))
 
