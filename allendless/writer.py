@@ -14,15 +14,8 @@ KIND = 0
 SIDE = 1
 ATOM = 2
 
-# The prims: their sign, their level, and the levels wanted to the left and to the right.
 SIGNS = {
-    "below": (" < ", TEST, SUM, SUM),
-    "same": (" = ", TEST, SUM, SUM),
-    "add": (" + ", SUM, SUM, PRODUCT),
-    "less": (" - ", SUM, SUM, PRODUCT),
-    "times": (" * ", PRODUCT, PRODUCT, POST),
-    "over": (" / ", PRODUCT, PRODUCT, POST),
-    "rest": (" | ", PRODUCT, PRODUCT, POST),
+    "below": " < ", "same": " = ", "add": " + ", "less": " - ", "times": " * ", "over": " / ", "rest": " | ",
 }
 
 
@@ -58,8 +51,14 @@ def _number(term):
 
 
 def _prim(term):
-    sign, level, left, right = SIGNS[term[1]]
-    return level, (_term_part(term[2][0], left), sign, _term_part(term[2][1], right))
+    word = term[1]
+    if word in ("below", "same"):
+        level, left, right = TEST, SUM, SUM
+    elif word in ("add", "less"):
+        level, left, right = SUM, SUM, PRODUCT
+    else:
+        level, left, right = PRODUCT, PRODUCT, POST
+    return level, (_term_part(term[2][0], left), SIGNS[word], _term_part(term[2][1], right))
 
 
 def _as(term):
