@@ -25,3 +25,30 @@ def data_text(value):
         else:
             pieces.append(str(part))
     return " ".join(pieces)
+
+
+def flat(value):
+    """The integers of a plain value from left to right.
+
+    Plain values of one kind have the order of these lists, however deep their pairs are.
+    """
+    found = []
+    todo = [value]
+    while todo:
+        part = todo.pop()
+        if isinstance(part, tuple):
+            todo.extend(part[::-1])
+        else:
+            found.append(part)
+    return found
+
+
+def power(base, exponent):
+    """A power of an integer, the exponent being any integer from 0 on."""
+    made = 1
+    while exponent > 0:
+        if exponent & 1:
+            made = made * base
+        base = base * base
+        exponent >>= 1
+    return made

@@ -4,11 +4,14 @@ A function is kept as the number of a tree. An ask whose branches are all one fu
 kept: its branch 0 stands for it. So a place that stands in a kept tree is needed by its function.
 """
 
+from allendless.data import data_text
+
 # Marks are counted modulo a great prime. Whatever the tree of a function, its mark is the same;
 # so functions with unlike marks are unlike, and few others have to be compared end by end.
 PRIME = 2 ** 61 - 1
 SPREAD = 1442695040888963407
 SHIFT = 6364136223846793005
+GREATEST_DIGIT = 8
 
 
 def _mixed(number):
@@ -17,81 +20,110 @@ def _mixed(number):
     return mixed * mixed % PRIME * mixed % PRIME
 
 
-def _mark_of_ask(place, marks):
-    """The mark of an ask: a sum of the marks of its branches, with weights that add up to 1."""
-    mark = marks[0]
-    for digit in range(1, len(marks)):
-        weight = _mixed((place[0] * 4 + place[1]) * 10 + digit)
-        mark = (mark + weight * (marks[digit] - marks[0])) % PRIME
-    return mark
-
-
 class Functions:
-    """Functions by their numbers."""
+    """Functions by their numbers; each has just one number, whatever tree it was told by."""
 
     def __init__(self):
         self.numbers = {}
         self.shapes = []
         self.lowests = []
         self.marks = []
+        self.marked = {}
+        self.weights = {}
+        self.left = {}
+        self.ends = {}
+        self.tops = {}
 
-    def _kept(self, shape, lowest, mark):
-        """The number of a tree of this shape."""
-        if shape not in self.numbers:
-            self.numbers[shape] = len(self.shapes)
-            self.shapes.append(shape)
-            self.lowests.append(lowest)
-            self.marks.append(mark)
-        return self.numbers[shape]
+    def _number_of_shape(self, shape, lowest, mark):
+        """The number of a function that is told by a shape which has not been met yet."""
+        held = self.marked.setdefault(mark, [])
+        for number in held:
+            if self._is_told_by(shape, number):
+                self.numbers[shape] = number
+                return number
+        number = len(self.shapes)
+        held.append(number)
+        self.numbers[shape] = number
+        self.shapes.append(shape)
+        self.lowests.append(lowest)
+        self.marks.append(mark)
+        return number
 
     def end_with(self, key):
         """The function with one value, told by an integer or a string."""
         shape = ("end", key)
-        return self._kept(shape, None, _mixed(self.numbers.get(shape, len(self.shapes))))
+        number = self.numbers.get(shape)
+        if number is None:
+            number = self._number_of_shape(shape, None, _mixed(len(self.shapes)))
+        return number
 
     def ask_for(self, place, branches):
         """The function that is told by the functions of branches, by the digit at a place."""
-        if all([self.is_same(branches[0], branch) for branch in branches]):
+        if branches.count(branches[0]) == len(branches):
             return branches[0]
-        below = [self.lowests[branch] for branch in branches if self.lowests[branch] is not None]
-        mark = _mark_of_ask(place, [self.marks[branch] for branch in branches])
-        return self._kept(("ask", place, branches), min([place, *below]), mark)
+        shape = ("ask", place, branches)
+        number = self.numbers.get(shape)
+        if number is None:
+            lowest = place
+            for branch in branches:
+                below = self.lowests[branch]
+                if below is not None and below < lowest:
+                    lowest = below
+            number = self._number_of_shape(shape, lowest, self._mark_of_ask(place, branches))
+        return number
 
-    def is_same(self, one, other):
-        """Whether two numbers stand for the same function."""
-        if one == other or self.marks[one] != self.marks[other]:
-            return one == other
-        todo = [(one, {})]
+    def _mark_of_ask(self, place, branches):
+        """The mark of an ask: a sum of the marks of its branches, with weights that add up to 1."""
+        if place not in self.weights:
+            here = (place[0] * 4 + place[1]) * 10
+            self.weights[place] = [_mixed(here + digit) for digit in range(GREATEST_DIGIT + 1)]
+        weights = self.weights[place]
+        first = self.marks[branches[0]]
+        mark = first
+        for digit in range(1, len(branches)):
+            mark += weights[digit] * (self.marks[branches[digit]] - first)
+        return mark % PRIME
+
+    def _is_told_by(self, shape, number):
+        """Whether a shape tells the function of a number: no two ends that go together have unlike values.
+
+        The shape is gone through first, and for each of its ends what goes along with it of the function.
+        """
+        known = {}
+        todo = [(None, 0, shape, None)]
         while todo:
-            number, known = todo.pop()
-            shape = self.shapes[number]
-            if shape[0] == "end":
-                if not self._gives_only(other, known, number):
-                    return False
+            place, digit, part, wanted = todo.pop()
+            if part is None:
+                del known[place]
                 continue
-            for digit, branch in enumerate(shape[2]):
-                longer = {place: known[place] for place in known}
-                longer[shape[1]] = digit
-                todo.append((branch, longer))
+            if place is not None:
+                known[place] = digit
+            if wanted is None and part[0] == "end":
+                wanted = part
+                part = self.shapes[number]
+            if wanted is not None:
+                part = self._passed(part, known)
+                if part[0] == "end" and part != wanted:
+                    return False
+            if part[0] == "ask":
+                todo.append((part[1], 0, None, None))
+                for at, branch in enumerate(part[2]):
+                    todo.append((part[1], at, self.shapes[branch], wanted))
         return True
 
-    def _gives_only(self, number, known, wanted):
-        """Whether a function has this one value on all rows that go along with known entries."""
-        todo = [number]
-        while todo:
-            number = todo.pop()
-            shape = self.shapes[number]
-            if shape[0] == "end":
-                if number != wanted:
-                    return False
-            elif shape[1] in known:
-                todo.append(shape[2][known[shape[1]]])
-            else:
-                todo.extend(shape[2])
-        return True
+    def _passed(self, shape, known):
+        """What stands in the place of a shape whose first asks are known already."""
+        while shape[0] == "ask" and shape[1] in known:
+            shape = self.shapes[shape[2][known[shape[1]]]]
+        return shape
 
     def given_lowest(self, top, digit):
         """The function that is left of one if the least place that it needs has a digit."""
+        if (top, digit) not in self.left:
+            self.left[(top, digit)] = self._given_lowest(top, digit)
+        return self.left[(top, digit)]
+
+    def _given_lowest(self, top, digit):
         place = self.lowests[top]
         made = {}
         todo = [top]
@@ -110,3 +142,92 @@ class Functions:
                 else:
                     made[number] = self.ask_for(shape[1], tuple([made[branch] for branch in shape[2]]))
         return made[top]
+
+    def number_of(self, tree):
+        """The number of the function of a right tree."""
+        made = []
+        todo = [(tree, False)]
+        while todo:
+            part, is_ended = todo.pop()
+            if part[0] == "end":
+                number = self.end_with(data_text(part[1]))
+                self.ends[number] = part
+                made.append(number)
+            elif is_ended:
+                first = len(made) - len(part[2])
+                branches = tuple(made[first:])
+                del made[first:]
+                made.append(self.ask_for(part[1], branches))
+            else:
+                todo.append((part, True))
+                todo.extend([(branch, False) for branch in part[2][::-1]])
+        return made[0]
+
+    def left_at(self, number, place, digit):
+        """The function that is left if a place has a digit, the place being no greater than any that is needed."""
+        return self.given_lowest(number, digit) if self.lowests[number] == place else number
+
+    def size_at_lowest(self, number):
+        """How many digits the least place has that a function needs."""
+        place = self.lowests[number]
+        shape = self.shapes[number]
+        while shape[1] != place:
+            below = [branch for branch in shape[2] if self.lowests[branch] == place]
+            shape = self.shapes[below[0]]
+        return len(shape[2])
+
+    def top_of(self, number):
+        """The top of the least tree of a function of trees: its end, or an ask with the numbers of its branches."""
+        if number not in self.tops:
+            lowest = self.lowests[number]
+            if lowest is None:
+                self.tops[number] = self.ends[number]
+            else:
+                digits = range(self.size_at_lowest(number))
+                self.tops[number] = ("ask", lowest, tuple([self.given_lowest(number, digit) for digit in digits]))
+        return self.tops[number]
+
+    def places_of(self, number):
+        """The places that a function needs, ascending."""
+        met = {number: True}
+        places = {}
+        todo = [number]
+        while todo:
+            shape = self.shapes[todo.pop()]
+            if shape[0] == "ask":
+                places[shape[1]] = True
+                further = [branch for branch in shape[2] if branch not in met]
+                for branch in further:
+                    met[branch] = True
+                todo.extend(further)
+        return tuple(sorted(places))
+
+    def parts_of(self, number):
+        """The unlike parts of the least tree of a function of trees, all branches of an ask in turn ahead of it."""
+        found = {}
+        todo = [(number, False)]
+        while todo:
+            part, is_ended = todo.pop()
+            if part in found:
+                continue
+            top = self.top_of(part)
+            if is_ended or top[0] == "end":
+                found[part] = True
+            else:
+                todo.append((part, True))
+                todo.extend([(branch, False) for branch in top[2][::-1]])
+        return list(found)
+
+    def folded(self, number, at_end, at_ask):
+        """What is made of each part of the least tree of a function of trees, a dict by the numbers of the parts.
+
+        at_end(V) makes it of an end, at_ask(place, what was made of the branches) of an ask.
+        """
+        made = {}
+        for part in self.parts_of(number):
+            top = self.top_of(part)
+            if top[0] == "end":
+                made[part] = at_end(top[1])
+            else:
+                made[part] = at_ask(top[1], [made[branch] for branch in top[2]])
+        return made

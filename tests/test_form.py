@@ -19,14 +19,16 @@ BARRED = """type typing typing_extensions enum Enum IntEnum StrEnum Flag IntFlag
 namedtuple NamedTuple TypedDict TYPE_CHECKING abstractmethod dataclass overload contextmanager""".split()
 UNUSED = "register mro elements open input law version_info with_traceback add_note compile copyright dir eval exec exit \
 gc globals help id importlib license locals os quit setattr super vars type getattr hasattr attrgetter".split()
+LIBRARY = {"heapq": ("heappush", "heappop"), "math": ("gcd", "lcm"), "itertools": ("combinations", "product")}
 NODES = (
     ast.Module, ast.Expr, ast.Constant, ast.ImportFrom, ast.alias, ast.FunctionDef, ast.ClassDef, ast.arguments, ast.arg,
     ast.Assign, ast.AugAssign, ast.If, ast.While, ast.For, ast.Return, ast.Break, ast.Continue, ast.Raise, ast.Delete,
     ast.Try, ast.ExceptHandler, ast.Name, ast.Attribute, ast.Subscript, ast.Slice, ast.Call, ast.Tuple, ast.List,
     ast.Dict, ast.ListComp, ast.DictComp, ast.comprehension, ast.BinOp, ast.UnaryOp, ast.BoolOp, ast.Compare, ast.IfExp,
     ast.JoinedStr, ast.FormattedValue, ast.Starred, ast.operator, ast.unaryop, ast.boolop, ast.cmpop, ast.expr_context,
-    ast.Pass,
+    ast.Pass, ast.keyword, ast.Lambda,
 )
+KEYWORDS = {"sorted": ("key", "reverse"), "min": ("key", "default"), "max": ("key", "default"), "sum": ("start",)}
 
 
 def files():
@@ -92,7 +94,9 @@ class FormTest(unittest.TestCase):
                 if isinstance(node, (ast.FunctionDef, ast.ClassDef)):
                     bound.append(node.name)
                 elif isinstance(node, ast.ImportFrom):
-                    self.assertTrue(node.module.startswith("allendless."), name)
+                    for alias in node.names:
+                        own = node.module.startswith("allendless.")
+                        self.assertTrue(own or alias.name in LIBRARY.get(node.module, ()), (name, alias.name))
                     bound.extend(alias.name for alias in node.names)
                 elif isinstance(node, ast.Assign):
                     self.assertEqual(len(node.targets), 1)
@@ -124,10 +128,13 @@ class FormTest(unittest.TestCase):
             needs[name[:-3]] = []
             for node in tree.body:
                 if isinstance(node, ast.ImportFrom):
-                    needs[name[:-3]].append(node.module.split(".")[1])
                     for alias in node.names:
                         self.assertIn(alias.name, used, name)
                         self.assertIsNone(alias.asname)
+                    if node.module in LIBRARY:
+                        continue
+                    needs[name[:-3]].append(node.module.split(".")[1])
+                    for alias in node.names:
                         self.assertTrue(defines(node.module.split(".")[1] + ".py", alias.name), (name, alias.name))
         done = set()
         while len(done) < len(needs):
@@ -166,6 +173,17 @@ class FormTest(unittest.TestCase):
                     self.assertIn(node.id, BUILTINS, (name, node.lineno))
                 if isinstance(node, ast.Call) and isinstance(node.func, ast.Attribute):
                     self.assertTrue(node.func.attr in METHODS or node.func.attr in own, (name, node.func.attr))
+
+    def test_keywords(self):
+        for name, tree in trees():
+            for node in ast.walk(tree):
+                if isinstance(node, ast.Call):
+                    for held in node.keywords:
+                        self.assertIsInstance(node.func, ast.Name, (name, node.lineno))
+                        self.assertIn(held.arg, KEYWORDS.get(node.func.id, ()), (name, node.lineno))
+                if isinstance(node, ast.Call) and isinstance(node.func, ast.Name) and node.func.id in ("combinations", "product"):
+                    for part in node.args:
+                        self.assertNotIsInstance(part, (ast.Tuple, ast.Starred), (name, node.lineno))
 
     def test_loops_change_nothing_that_they_go_over(self):
         for name, tree in trees():
