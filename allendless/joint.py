@@ -20,11 +20,13 @@ def coded(trees):
     return tuple([grown(tree, step, None) for tree in trees]), tuple(told)
 
 
-def joint_tree(trees, tell):
-    """The tree, of any size, of what tell(VALUES) makes of the values of some trees, a tuple of them."""
+def joint_tree(trees, tell, entries):
+    """The tree, of any size, of what tell(VALUES) makes of the values of some trees, a tuple of them.
+
+    It is the function that is left of them if entries, a dict, are known.
+    """
     def step(state, known):
-        part, told = state
-        part, told = _gone_on(trees, part, told, known)
+        part, told = _gone_on(trees, state[0], state[1], (known, entries))
         if part is None:
             return ("end", tell(told))
         return ("ask", part[1], [(branch, told) for branch in part[2]])
@@ -32,7 +34,7 @@ def joint_tree(trees, tell):
 
 
 def _gone_on(trees, part, told, known):
-    """The next ask that is not known, with the values that were told ahead; None behind the last tree."""
+    """The next ask that no dict of known tells, with the values that were told ahead; None behind the last tree."""
     while True:
         if part is None:
             if len(told) == len(trees):
@@ -41,10 +43,34 @@ def _gone_on(trees, part, told, known):
         elif part[0] == "end":
             told = told + (part[1],)
             part = None
-        elif part[1] in known:
-            part = part[2][known[part[1]]]
         else:
-            return part, told
+            holding = [digits for digits in known if part[1] in digits]
+            if not holding:
+                return part, told
+            part = part[2][holding[0][part[1]]]
+
+
+def all_hold(trees, most):
+    """The tree that is 1 where some trees of 0 and 1 are all 1, otherwise 0.
+
+    TooGreat("tree") if it has more than `most` nodes (None: there is no bound).
+    """
+    def step(state, known):
+        part, number = state
+        while number < len(trees):
+            if part is None:
+                part = trees[number]
+            elif part[0] == "end":
+                if part[1] == 0:
+                    return part
+                part = None
+                number += 1
+            elif part[1] in known:
+                part = part[2][known[part[1]]]
+            else:
+                return ("ask", part[1], [(branch, number) for branch in part[2]])
+        return ("end", 1)
+    return grown((None, 0), step, most)
 
 
 def even_rates(menu):
@@ -93,7 +119,7 @@ def joint_weights(rates, trees, entries):
             continue
         if place is not None:
             known[place] = digit
-        part, told = _gone_on(trees, part, told, known)
+        part, told = _gone_on(trees, part, told, (known,))
         if part is None:
             found[told] = found.get(told, 0) + weight
             continue

@@ -68,7 +68,7 @@ def parting(sizes, tree, other):
     """The shortest beginning behind which two trees are unlike on all rows, or None if they are the same."""
     trees, _ = coded((tree, other))
     functions = Functions()
-    number = functions.number_of(joint_tree(trees, _tell_unlike))
+    number = functions.number_of(joint_tree(trees, _tell_unlike, {}))
     lengths = functions.folded(number, _parting_at_end, _parting_at_ask)
     length = lengths[number]
     if length is None:
@@ -173,13 +173,13 @@ def _tell_greatest(told):
 def met(sizes, tree, other):
     """The least tree of the lesser one of the values of two trees."""
     functions = Functions()
-    return least_of(functions, functions.number_of(joint_tree((tree, other), _tell_least)), MOST_NODES)
+    return least_of(functions, functions.number_of(joint_tree((tree, other), _tell_least, {})), MOST_NODES)
 
 
 def joined(sizes, tree, other):
     """The least tree of the greater one of the values of two trees."""
     functions = Functions()
-    return least_of(functions, functions.number_of(joint_tree((tree, other), _tell_greatest)), MOST_NODES)
+    return least_of(functions, functions.number_of(joint_tree((tree, other), _tell_greatest, {})), MOST_NODES)
 
 
 def settled_share(sizes, tree, n):
@@ -238,5 +238,6 @@ def _likeliest(sizes, tree):
     """The value that a tree has on the greatest share of all rows, of several such the least."""
     trees, told = coded((tree,))
     weights, _ = joint_weights(even_rates(sizes), trees, {})
-    most = max([weights[code] for code in weights])
-    return told[min([code[0] for code in weights if weights[code] == most], key=lambda code: flat(told[code]))]
+    most = max(list(weights.values()))
+    _, code = min([(flat(told[code]), code) for (code,) in weights if weights[(code,)] == most])
+    return told[code]

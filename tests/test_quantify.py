@@ -16,7 +16,7 @@ from tests.test_ways import program
 from tests.wrong import told_by, what_of
 
 TOP = 10 ** 18 - 1
-BIG = "repeat(60, fn a : num. repeat(60, fn b : num. repeat(60, fn c : num. c + 1, b), a), 0)"
+BIG = "repeat(60, fn k1 : num. repeat(60, fn k2 : num. repeat(60, fn k3 : num. k3 + 1, k2), k1), 0)"
 
 
 def by_filling(term, menu):

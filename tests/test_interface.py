@@ -1,0 +1,65 @@
+"""The interface in DOC.md: its functions and classes are defined in the files under which it lists them, with as many arguments."""
+
+import ast
+import importlib
+import inspect
+import unittest
+
+from tests.test_form import source
+
+# For each file its functions, each with the number of its arguments.
+FUNCTIONS = {
+    "lexer": {"tokens_of": 1},
+    "reader": {"read_term": 1, "read_kind": 1},
+    "writer": {"term_text": 1, "kind_text": 1},
+    "kinds": {"is_kind": 1, "is_plain": 1, "is_name": 1, "children": 1, "with_children": 2, "term_at": 2, "paths_of": 1, "put_at": 3,
+              "free_names": 1, "bound_names": 1, "plainly_named": 1, "same_term": 2, "put_in": 3},
+    "judging": {"fault_of": 2, "kind_of": 2, "is_program": 1, "menu_of": 1, "result_of": 1},
+    "told": {"is_told": 2, "told_entry": 2, "least_told": 1, "same_told": 2, "is_known": 2, "go_together": 2, "together": 2, "known_at": 2},
+    "plain": {"run_known": 2, "run_told": 2, "value_of": 1},
+    "ways": {"ways": 1, "work": 1, "is_small": 1, "way_of": 2},
+    "trees": {"is_tree": 2, "node_count": 1, "ends_of": 1, "value_on": 2, "way_on": 2, "fixed_at": 3, "paired": 3, "led": 2, "grafted": 3,
+              "turned": 2, "put_in": 2},
+    "leasttrees": {"least": 2, "is_least": 1, "first_needed": 1, "settled_at": 3},
+    "sharing": {"shared": 2, "unshared": 1},
+    "quantify": {"values_of": 1, "least_rows": 2, "value_rows": 1, "can_hold": 1, "holds": 1, "bound": 3},
+    "sameness": {"same": 3, "same_programs": 2, "least_unlike": 3, "parting": 3, "distance": 3, "is_below": 3, "least_above": 3, "met": 3,
+                 "joined": 3, "settled_share": 3, "nearest": 3},
+    "moduli": {"needed_places": 2, "modulus": 2, "hangs_on": 3, "is_enough": 4, "enough_at": 3, "hardest": 3, "sensitive_places": 3},
+    "strategies": {"least_depth": 2, "least_mean": 2, "best_strategy": 2, "mean_strategy": 2, "certificate_strategy": 3, "depth_of": 1,
+                   "mean_of": 2},
+    "shares": {"shares_of": 2, "mean": 2, "variance": 2, "shares_given": 3, "independent": 2, "told_so_far": 3, "force": 3, "swing": 3,
+               "forces": 2, "asked_shares": 2, "weighed_shares": 3},
+    "solving": {"patterns": 2, "least_solution": 2, "greatest_solution": 2, "forced": 2, "many_beginnings": 3, "nth_beginning": 4,
+                "beginning_number": 3, "common_beginning": 2, "clash": 2, "best_solution": 3},
+    "answering": {"least_meeting": 2, "first_entries": 3, "clash_at": 2, "answers_always": 1, "answerer": 1, "answer_tree": 2},
+    "plays": {"worth": 3, "cut_worth": 4, "is_rule": 4, "sure_worth": 5, "best_rule": 4, "best_play": 3, "told_play": 4, "told_values": 4,
+              "reply_value": 5},
+}
+
+
+class InterfaceTest(unittest.TestCase):
+    def test_functions(self):
+        for name, functions in FUNCTIONS.items():
+            defined = [node.name for node in ast.parse(source(name + ".py")).body if isinstance(node, ast.FunctionDef)]
+            module = importlib.import_module("allendless." + name)
+            for word, many in functions.items():
+                self.assertIn(word, defined, name)
+                parameters = inspect.signature(getattr(module, word)).parameters.values()
+                self.assertEqual(len(parameters), many, word)
+                self.assertTrue(all(one.default is inspect.Parameter.empty for one in parameters), word)
+
+    def test_equal_calls_give_equal_results(self):
+        from allendless.leasttrees import least
+        from allendless.sameness import nearest
+        from allendless.strategies import best_strategy
+        from tests.making import Maker
+        places = [(i, k) for i in range(2) for k in range(2)]
+        for seed in range(20):
+            tree = Maker(seed).tree((2, 3), places, (0, 1, 2), 4)
+            for function, more in ((least, ()), (best_strategy, ()), (nearest, (1,))):
+                self.assertEqual(function((2, 3), tree, *more), function((2, 3), tree, *more))
+
+
+if __name__ == "__main__":
+    unittest.main()
