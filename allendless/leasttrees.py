@@ -90,7 +90,7 @@ def _is_settled(tree, rows, n):
 def settled_at(menu, tree, rows):
     """The least n for which the entries below n of told rows settle the value of a tree."""
     # What is settled stays so for a greater n, so the least n is found by halving; it is 0 or one behind an index.
-    lengths = [0, *[i + 1 for i in _indices_of(tree)]]
+    lengths = [0] + [i + 1 for i in _indices_of(tree)]
     low = 0
     high = len(lengths) - 1
     while low < high:

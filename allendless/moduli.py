@@ -129,7 +129,7 @@ def hardest(sizes, tree, value):
     wanted = data_text(value)
     # Fillings stand in a mask, one bit each; at first all places are known, so all are enough.
     having = sum([1 << at for at, text in enumerate(_fillings(tree, places, bases)) if text == wanted])
-    level = {tuple(list(range(len(places)))): having}
+    level = {tuple(range(len(places))): having}
     axes = _axes(bases)
     size = len(places)
     while size > 0:

@@ -125,22 +125,23 @@ class Functions:
 
     def _given_lowest(self, top, digit):
         place = self.lowests[top]
-        made = {}
+        met = {top: True}
         todo = [top]
         while todo:
-            number = todo.pop()
+            shape = self.shapes[todo.pop()]
+            if shape[1] != place:
+                for branch in shape[2]:
+                    if self.lowests[branch] == place and branch not in met:
+                        met[branch] = True
+                        todo.append(branch)
+        made = {}
+        # The branches of a shape have lesser numbers than it has itself, so they are made ahead of it.
+        for number in sorted(met):
             shape = self.shapes[number]
-            if self.lowests[number] != place:
-                made[number] = number
-            elif shape[1] == place:
+            if shape[1] == place:
                 made[number] = shape[2][digit]
-            elif number not in made:
-                missing = [branch for branch in shape[2] if branch not in made]
-                if missing:
-                    todo.append(number)
-                    todo.extend(missing)
-                else:
-                    made[number] = self.ask_for(shape[1], tuple([made[branch] for branch in shape[2]]))
+            else:
+                made[number] = self.ask_for(shape[1], tuple([made.get(branch, branch) for branch in shape[2]]))
         return made[top]
 
     def number_of(self, tree):

@@ -1,6 +1,6 @@
 """Which functions of rows are the same, where they are not, how far apart they are, and what beginnings settle."""
 
-from allendless.data import flat, power
+from allendless.data import data_text, flat, power
 from allendless.errors import TooGreat, WrongKind
 from allendless.joint import coded, even_rates, joint_tree, joint_weights
 from allendless.judging import menu_of, result_of
@@ -23,7 +23,7 @@ def same(sizes, tree, other):
 
 def same_programs(program, other):
     """Whether two programs give the same on all rows."""
-    if menu_of(program) != menu_of(other) or result_of(program) != result_of(other):
+    if menu_of(program) != menu_of(other) or data_text(result_of(program)) != data_text(result_of(other)):
         raise WrongKind()
     return same(menu_of(program), ways(program), ways(other))
 
@@ -239,5 +239,5 @@ def _likeliest(sizes, tree):
     trees, told = coded((tree,))
     weights, _ = joint_weights(even_rates(sizes), trees, {})
     most = max(list(weights.values()))
-    _, code = min([(flat(told[code]), code) for (code,) in weights if weights[(code,)] == most])
-    return told[code]
+    _, first = min([(flat(told[code[0]]), code[0]) for code in weights if weights[code] == most])
+    return told[first]

@@ -24,8 +24,8 @@ def shares_of(menu, tree):
 def _sums(menu, tree, entries):
     """The sums of the values of a tree of numbers and of their squares, over equal shares, and how many these are."""
     weights, whole = joint_weights(even_rates(menu), (tree,), entries)
-    first = sum([value * weights[(value,)] for (value,) in weights])
-    second = sum([value * value * weights[(value,)] for (value,) in weights])
+    first = sum([told[0] * weights[told] for told in weights])
+    second = sum([told[0] * told[0] * weights[told] for told in weights])
     return first, second, whole
 
 

@@ -93,6 +93,16 @@ class SameTest(unittest.TestCase):
         self.assertEqual(what_of(same_programs, program(BIG), program("1")), "program")
         self.assertEqual(what_of(same_programs, program("1"), program(BIG)), "program")
 
+    def test_deep_results(self):
+        def deep(many, text):
+            term = program(text, 2)[3]
+            for _ in range(many):
+                term = ("pair", ("digit", 1, 0), term)
+            return ("fn", "r", ("rows", 2), term)
+        self.assertIs(same_programs(deep(1500, "r[0]"), deep(1500, "as 2 (count(r[0]))")), True)
+        self.assertIs(same_programs(deep(1500, "r[0]"), deep(1500, "r[1]")), False)
+        self.assertEqual(told_by(same_programs, deep(1500, "r[0]"), deep(1501, "r[0]")), ("WrongKind",))
+
     def test_distances_of_three(self):
         for menu, places in MENUS:
             for seed in range(20):
