@@ -2,7 +2,8 @@
 
 from allendless.running import run_body, run_term
 
-MOST_STEPS = 20000
+# Answers are promised for 20,000 steps. More are gone, as terms that were returned may take many.
+MOST_STEPS = 100000
 
 
 def run_known(program, known):

@@ -3,8 +3,9 @@
 What is still to do and the values that were made stand in two lists: rows may stand on rows and
 functions on functions, many thousands deep. To stop at a row is to cut both lists back.
 
-An environment is None or (NAME, VALUE, the environment around). A function is ("fn", TERM, ENVIRONMENT), a
-row ("made", TERM, ENVIRONMENT), ("found", ENTRIES), ("parameter", K) or ("going", GOING), a pair a tuple of two.
+An environment is None or (NAME, VALUE, the environment around). A function is ("fn", TERM, ENVIRONMENT), or
+("table", VALUES) if it is told by its values for all digits. A row is ("made", TERM, ENVIRONMENT),
+("found", ENTRIES), ("parameter", K) or ("going", GOING), a pair a tuple of two.
 """
 
 from allendless.data import TOP
@@ -169,7 +170,10 @@ def _end_call(run, first, second):
 
 
 def _apply(run, function, value):
-    """Work the body of a function out with a value for its name."""
+    """Work the body of a function out with a value for its name; one that is told by its values takes no step."""
+    if function[0] == "table":
+        run.made.append(function[1][value])
+        return
     _, term, env = function
     run.plan("term", term[3], (term[1], value, env))
 

@@ -10,6 +10,9 @@ from allendless.trees import grown
 MOST_WORK = 20000
 MOST_ENDS = 500
 
+# Ways are promised for small programs. They are told up to here, as terms that were returned may take many steps.
+MOST_WORK_OF_WAYS = 100000
+
 
 class Tally:
     """What going through ways has come to so far."""
@@ -19,13 +22,13 @@ class Tally:
         self.ends = 0
 
 
-def _gone_through(program):
-    """The ways of a small program, its work and the number of its ends."""
+def _gone_through(program, most):
+    """The ways of a program whose work is at most a number, its work and the number of its ends."""
     menu = menu_of(program)
     tally = Tally()
 
     def step(state, known):
-        run = run_body(program, known, None, MOST_WORK - tally.work)
+        run = run_body(program, known, None, most - tally.work)
         tally.work += run.steps
         if run.stopped is not None:
             return ("ask", run.stopped, [None] * menu[run.stopped[1]])
@@ -38,21 +41,21 @@ def _gone_through(program):
 
 
 def ways(program):
-    """The ways of a small program."""
-    tree, _, _ = _gone_through(program)
+    """The ways of a program; TooGreat("program") if they are far too many."""
+    tree, _, _ = _gone_through(program, MOST_WORK_OF_WAYS)
     return tree
 
 
 def work(program):
     """The pair (work, number of ends) of a small program."""
-    _, steps, ends = _gone_through(program)
+    _, steps, ends = _gone_through(program, MOST_WORK)
     return (steps, ends)
 
 
 def is_small(program):
     """Whether a program is small."""
     try:
-        _gone_through(program)
+        _gone_through(program, MOST_WORK)
     except TooGreat:
         return False
     return True

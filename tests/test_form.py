@@ -19,7 +19,7 @@ BARRED = """type typing typing_extensions enum Enum IntEnum StrEnum Flag IntFlag
 namedtuple NamedTuple TypedDict TYPE_CHECKING abstractmethod dataclass overload contextmanager""".split()
 UNUSED = "register mro elements open input law version_info with_traceback add_note compile copyright dir eval exec exit \
 gc globals help id importlib license locals os quit setattr super vars type getattr hasattr attrgetter".split()
-LIBRARY = {"heapq": ("heappush", "heappop"), "math": ("gcd", "lcm"), "itertools": ("combinations", "product")}
+LIBRARY = {"heapq": ("heappush", "heappop"), "math": ("gcd", "lcm", "isqrt"), "itertools": ("combinations", "product")}
 NODES = (
     ast.Module, ast.Expr, ast.Constant, ast.ImportFrom, ast.alias, ast.FunctionDef, ast.ClassDef, ast.arguments, ast.arg,
     ast.Assign, ast.AugAssign, ast.If, ast.While, ast.For, ast.Return, ast.Break, ast.Continue, ast.Raise, ast.Delete,

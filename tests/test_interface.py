@@ -35,6 +35,14 @@ FUNCTIONS = {
     "answering": {"least_meeting": 2, "first_entries": 3, "clash_at": 2, "answers_always": 1, "answerer": 1, "answer_tree": 2},
     "plays": {"worth": 3, "cut_worth": 4, "is_rule": 4, "sure_worth": 5, "best_rule": 4, "best_play": 3, "told_play": 4, "told_values": 4,
               "reply_value": 5},
+    "choosers": {"choice": 2, "outcome": 2, "play_of": 4, "play_value": 3, "play_term": 2},
+    "codes": {"is_searchable": 1, "width_of": 1, "is_even": 1, "elements_count": 1, "is_address": 2, "address_index": 2,
+              "index_address": 2, "decoder": 1, "coder": 1, "over": 4, "found": 3, "is_near": 3},
+    "reals": {"value_of": 1, "sum_of": 1, "row_of": 2, "reach": 2, "respects": 2, "same_numbers": 3, "negated_term": 0,
+              "halved_term": 0, "average_term": 0, "constant_term": 1},
+    "areas": {"greatest_value": 2, "least_value": 2, "mean_value": 2, "area": 2, "root": 3},
+    "turners": {"entry_program": 2, "entry_tree": 2, "needs": 2, "behind": 2, "first_unlike": 3, "images": 2, "share_of_image": 2,
+                "keeps_shares": 2, "fixed_beginnings": 2, "is_ahead": 2, "reads_back": 3, "back_table": 3, "collision": 3},
 }
 
 

@@ -403,7 +403,9 @@ class RunsTest(unittest.TestCase):
             program = ("fn", "r", ("rows", 2), term_of(steps))
             self.assertEqual(run_known(program, ())[3], steps)
             self.assertEqual(run_told(program, (((), (0,)),))[2], steps)
-        for steps in (20001, 50000):
+        # Beyond the bound runs are told up to 100,000 steps, as terms that were returned may take many.
+        self.assertEqual(value_of(term_of(100000))[1], 100000)
+        for steps in (100001, 150000):
             program = ("fn", "r", ("rows", 2), term_of(steps))
             self.assertEqual(what_of(value_of, term_of(steps)), "program")
             self.assertEqual(what_of(run_known, program, ()), "program")
@@ -418,7 +420,7 @@ class RunsTest(unittest.TestCase):
     def test_great_numbers_of_steps(self):
         text = "repeat(60, fn a : num. repeat(60, fn b : num. repeat(60, fn c : num. c + 1, b), a), 0)"
         self.assertEqual(what_of(value, text), "program")
-        text = "some r of 2. repeat(60, fn b : few 2. r[count(b)], repeat(60, fn n : num. n + count(r[n]), 0) = 7)"
+        text = "some r of 2. repeat(60, fn b : few 2. r[count(b)], repeat(60, fn n : num. n + 1 + count(r[n]) * 0, 0) = 7)"
         self.assertEqual(what_of(value, text), "program")
 
 
