@@ -4,6 +4,10 @@
 class AllendlessError(ValueError):
     """The one base class of all errors that the package raises."""
 
+    def short_name(self):
+        """The name of the error's class in small letters."""
+        return self.__class__.__name__.lower()
+
 
 class TooGreat(AllendlessError):
     """Something is beyond a bound; what it is, is told by a word."""

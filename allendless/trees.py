@@ -57,7 +57,7 @@ def _passed(tree, known):
     return tree
 
 
-def _is_data(value):
+def is_data(value):
     """Whether a value is plain data: an integer from 0 on, or a pair of such."""
     todo = [value]
     while todo:
@@ -76,7 +76,7 @@ def _is_node(menu, value):
     if not isinstance(value, tuple) or not value or not isinstance(value[0], str):
         return False
     if value[0] == "end":
-        return len(value) == 2 and _is_data(value[1])
+        return len(value) == 2 and is_data(value[1])
     if value[0] != "ask" or len(value) != 3 or not is_place(menu, value[1]):
         return False
     return isinstance(value[2], tuple) and len(value[2]) == menu[value[1][1]]

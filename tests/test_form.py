@@ -14,11 +14,12 @@ isupper items join keys ljust lower lstrip partition pop remove replace reverse 
 setdefault split splitlines startswith strip update upper values zfill bit_length""".split()
 CHANGING = "append clear extend insert pop remove reverse setdefault update sort".split()
 BUILTINS = """len range enumerate zip min max sum abs sorted reversed int str bool list tuple dict set isinstance ord
-repr any all divmod ValueError KeyError""".split()
+repr any all divmod ValueError KeyError NotImplemented""".split()
 BARRED = """type typing typing_extensions enum Enum IntEnum StrEnum Flag IntFlag Generic Protocol ABC ABCMeta
 namedtuple NamedTuple TypedDict TYPE_CHECKING abstractmethod dataclass overload contextmanager""".split()
 UNUSED = "register mro elements open input law version_info with_traceback add_note compile copyright dir eval exec exit \
 gc globals help id importlib license locals os quit setattr super vars type getattr hasattr attrgetter".split()
+DUNDERS = "__init__ __eq__ __ne__ __len__ __enter__ __exit__ __class__ __name__".split()
 LIBRARY = {"heapq": ("heappush", "heappop"), "math": ("gcd", "lcm", "isqrt"), "itertools": ("combinations", "product")}
 NODES = (
     ast.Module, ast.Expr, ast.Constant, ast.ImportFrom, ast.alias, ast.FunctionDef, ast.ClassDef, ast.arguments, ast.arg,
@@ -159,7 +160,7 @@ class FormTest(unittest.TestCase):
                     words = [] if "\n" in node.value or " " in node.value else [node.value]
                 for word in words:
                     self.assertNotIn(word, BARRED + UNUSED, (name, node.lineno))
-                    self.assertFalse(word.startswith("__") and word != "__init__", (name, word))
+                    self.assertFalse(word.startswith("__") and word not in DUNDERS, (name, word))
 
     def test_builtins_and_methods(self):
         own = set()
@@ -202,6 +203,34 @@ class FormTest(unittest.TestCase):
                     for sign, side in zip(node.ops, node.comparators):
                         if isinstance(sign, (ast.Is, ast.IsNot)):
                             self.assertTrue(isinstance(side, ast.Constant) and side.value in (None, True, False), name)
+
+
+    def test_special_methods(self):
+        for name, tree in trees():
+            for node in ast.walk(tree):
+                if isinstance(node, ast.ClassDef):
+                    methods = {part.name: part for part in node.body if isinstance(part, ast.FunctionDef)}
+                    if "__exit__" in methods:
+                        self.check_exit(methods["__exit__"])
+                    for word in ("__eq__", "__ne__"):
+                        if word in methods:
+                            self.assertEqual(len(methods[word].body), 2)
+                            self.assertEqual(ast.unparse(methods[word].body[0]),
+                                             f"if not isinstance(other, {node.name}):\n    return NotImplemented")
+                elif isinstance(node, ast.Attribute) and node.attr == "__name__":
+                    self.assertEqual(ast.unparse(node), "self.__class__.__name__")
+                elif isinstance(node, ast.Compare) and name != "session.py":
+                    self.assertNotIn("session", ast.unparse(node))
+                # As a class has == and len, these take lists.
+                elif isinstance(node, ast.GeneratorExp):
+                    self.fail((name, node.lineno))
+
+    def check_exit(self, method):
+        """A method that is left by errors assigns attributes to attributes alone."""
+        for row in method.body:
+            self.assertIsInstance(row, ast.Assign)
+            self.assertIsInstance(row.value, ast.Attribute)
+            self.assertEqual(len(row.targets), 1)
 
 
 def defines(name, word):

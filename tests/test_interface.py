@@ -43,10 +43,31 @@ FUNCTIONS = {
     "areas": {"greatest_value": 2, "least_value": 2, "mean_value": 2, "area": 2, "root": 3},
     "turners": {"entry_program": 2, "entry_tree": 2, "needs": 2, "behind": 2, "first_unlike": 3, "images": 2, "share_of_image": 2,
                 "keeps_shares": 2, "fixed_beginnings": 2, "is_ahead": 2, "reads_back": 3, "back_table": 3, "collision": 3},
+    "states": {"is_state_turner": 1, "state_entries": 2, "least_states": 1, "same_states": 2, "parting_word": 2, "state_term": 1},
+    "machines": {"is_machine": 1, "machine_of": 2, "states_at": 1, "run_on": 2, "first_reader": 1, "read": 3, "read_all": 3},
+    "merging": {"merged": 1, "tree_of": 1, "joined": 2, "machine_behind": 2},
+    "shown": {"is_right_tree": 2, "answer_to": 1, "certified": 1, "is_certified": 3},
+}
+
+
+# For each file its classes, each with its methods and the number of their arguments without the object itself.
+CLASSES = {
+    "session": {"Session": {"__init__": 0, "define": 2, "drop": 0, "definitions": 0, "closed": 1, "undo": 0, "redo": 0,
+                            "__eq__": 1, "__ne__": 1, "__len__": 0, "__enter__": 0, "__exit__": 3}},
+    "desk": {"Desk": {"__init__": 1, "answer": 1}},
 }
 
 
 class InterfaceTest(unittest.TestCase):
+    def test_classes(self):
+        for name, classes in CLASSES.items():
+            defined = {node.name: node for node in ast.parse(source(name + ".py")).body if isinstance(node, ast.ClassDef)}
+            for word, methods in classes.items():
+                own = {part.name: part for part in defined[word].body if isinstance(part, ast.FunctionDef)}
+                for method, many in methods.items():
+                    self.assertEqual(len(own[method].args.args), many + 1, (word, method))
+                    self.assertEqual(own[method].args.defaults, [])
+
     def test_functions(self):
         for name, functions in FUNCTIONS.items():
             defined = [node.name for node in ast.parse(source(name + ".py")).body if isinstance(node, ast.FunctionDef)]
