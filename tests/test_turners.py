@@ -6,13 +6,11 @@ from fractions import Fraction
 
 from allendless.judging import fault_of, kind_of
 from allendless.kinds import plainly_named
-from allendless.leasttrees import least
 from allendless.plain import run_told
 from allendless.reader import read_term
 from allendless.turners import (
     back_table, behind, collision, entry_program, entry_tree, first_unlike, fixed_beginnings, images, is_ahead, keeps_shares,
     needs, reads_back, share_of_image)
-from allendless.ways import ways
 from tests import simple
 from tests.filling import pair_of
 from tests.making import Maker
@@ -79,15 +77,15 @@ class EntryTest(unittest.TestCase):
         self.assertEqual(entry_tree(turner, 7), ("ask", (0, 0), (("end", 0), ("end", 1))))
 
     def test_great_entry_trees(self):
-        # Pairs of entries in the order that keeps the ways small; by their places all first ones come ahead.
-        made = ("digit", 2, 0)
-        for i in range(7):
-            pair = [("at", ("var", "r"), ("number", j)) for j in (i, i + 20)]
-            made = ("if", pair[0], ("if", pair[1], ("digit", 2, 1), made), made)
-        turner = ("fn", "r", ("rows", 2), ("row", "x", 2, made))
-        tree = ways(entry_program(turner, 0))
-        self.assertEqual(what_of(entry_tree, turner, 0), what_of(least, (2,), tree))
-        self.assertEqual(needs(turner, 1), 27)
+        # Entry n + 20 for the first n below many with a 1 there: few ways, but many parts once places ascend.
+        for many, word in ((8, None), (9, "tree")):
+            made = ("digit", 2, 0)
+            for i in range(many):
+                first, second = [("at", ("var", "r"), ("number", j)) for j in (i, i + 20)]
+                made = ("if", first, second, made)
+            turner = ("fn", "r", ("rows", 2), ("row", "x", 2, made))
+            self.assertEqual(what_of(entry_tree, turner, 0), word)
+            self.assertEqual(needs(turner, 1), 20 + many)
 
     def test_needs(self):
         self.assertEqual(needs(EVEN, 3), 5)
