@@ -13,8 +13,8 @@ GREATEST_WIDTH = 9
 
 # join is told for sums of its two numbers that are below this one.
 JOIN_BOUND = 10 ** 9
-LAST_SUM = JOIN_BOUND - 1
-LAST_CORNER = LAST_SUM * JOIN_BOUND // 2
+LAST_SUM = 10 ** 9 - 1
+LAST_CORNER = (10 ** 9 - 1) * 10 ** 9 // 2
 
 # Roots are found bit by bit: so many bits are enough below a bound. Small indices are asked most.
 FEW_BITS = 3
@@ -243,9 +243,9 @@ def _sum_at(names, index):
     turn = ("fn", held, numbers, ("call", ("fn", tried, ("num",), turned), trial))
     first_bit = _by_size(index, 1 << FEW_BITS - 1, 1 << SOME_BITS - 1, 1 << ALL_BITS - 1)
     bits = _by_size(index, FEW_BITS, SOME_BITS, ALL_BITS)
-    found = ("first", ("repeat", bits, turn, ("pair", ("number", 0), first_bit)))
+    told = ("first", ("repeat", bits, turn, ("pair", ("number", 0), first_bit)))
     # From the last corner on products could be above TOP.
-    return ("if", _prim("below", index, ("number", LAST_CORNER)), found, ("number", LAST_SUM))
+    return ("if", _prim("below", index, ("number", LAST_CORNER)), told, ("number", LAST_SUM))
 
 
 def _coded(names, kind, told, index, width):
