@@ -181,6 +181,8 @@ class KindTest(unittest.TestCase):
                      both(few(1), deep(few(2), 5)), ("to", both(NUM, NUM), few(2)), deep(NUM, 3), ("to", to(few(2)), few(2))):
             self.assertIs(is_searchable(kind), False, kind)
         self.assertIs(is_searchable(deep(few(2), 3000)), False)
+        for value in (few(10), few(0), rows(1), rows(True), both(few(2), few(10)), to(rows(10)), ("few",), ("both", few(2)), None, "few", ()):
+            self.assertIs(is_searchable(value), False, value)
 
     def test_not_searchable(self):
         for kind in (NUM, ("to", rows(2), few(2)), both(few(2), NUM), deep(rows(2), 6), deep(NUM, 2), to(both(few(2), ("to", few(2), few(2)))),

@@ -49,7 +49,8 @@ class FormTest(unittest.TestCase):
                 ((2,), ("told",)), ((2,), 5), ((2,), ((5,),)), ((2,), ((("go", 5),), last)), ((2,), [(("told", 1),)]),
                 ((2,), ((("go", (0, 0)),),) * 401 + ((("told", 0),),)), ((2,), ((("go", (0, 1)),), (("told", 0),) * 2000)),
                 ((3, 2), ((("go", (0, 1)),), last)), ((2, 3), ((("go", (0, 0)),), (("go", (0, 1)),), last)), (MACHINE[0], MACHINE[1], 0),
-                (MACHINE[1], MACHINE[0])):
+                (MACHINE[1], MACHINE[0]), ((2,), (5,)), ((2,), ((("told", 1),), ())), ((2,), ([("told", 1)],)), ((2,), (None,)),
+                ((2,), ((("told", 1),), None)), ((2,), (((0, 1),),))):
             self.assertIs(is_machine(value), False, value)
 
     def test_deep_values(self):

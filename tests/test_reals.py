@@ -303,6 +303,23 @@ class RespectTest(unittest.TestCase):
         self.assertEqual(pairs[2], ((0,) * 22, (0,) * 22))
 
 
+    def test_far_entries_that_do_not_matter(self):
+        # x / 2, two of its entries told in one of two ways by entry 23: all pairs have to be gone through.
+        bend = "if count(r[0]) = 2 then (if count(r[1]) = 0 then (if count(r[23]) = 0 then 1:2 else 0:2) else 0:2) else 0:2"
+        program = read_term(f"fn r : rows 3. row i of 3. if i = 0 then 1:3 else if ({bend}) then "
+                            "(if i = 1 then 1:3 else if i = 2 then 2:3 else r[i - 1]) else r[i - 1]")
+        self.assertEqual([reach(program, n) for n in range(5)], [0, 0, 24, 24, 24])
+        for n in range(5):
+            self.assertIsNone(respects(program, n))
+            self.assertIsNone(same_numbers(program, halved_term(), n))
+        wrong = read_term(f"fn r : rows 3. row i of 3. if i = 0 then 1:3 else if ({bend}) then "
+                          "(if i = 1 then 0:3 else if i = 2 then 2:3 else r[i - 1]) else r[i - 1]")
+        j, ((row, other),) = respects(wrong, 4)
+        self.assertEqual(j, 3)
+        self.assertTrue(are_near(row, other))
+        self.assertEqual(same_numbers(wrong, halved_term(), 4), (4, ((2,) + (0,) * 23,)))
+
+
 class SameNumbersTest(unittest.TestCase):
     def test_random_programs(self):
         told = 0

@@ -307,6 +307,10 @@ class QuestionTest(unittest.TestCase):
         idle = read_term("fn r : rows 2. if r[3] then r[0] else r[0]")
         self.assertIs(is_certified(("hangs", idle, (3, 0)), False, ask(0, 0, 0, 1)), True)
         self.assertIs(is_certified(("hangs", idle, (3, 0)), False, ways(idle)), False)
+        self.assertIs(is_certified(("hangs", idle, (3, 0)), False, ask(0, 0, ask(3, 0, 0, 0), 1)), False)
+        self.assertIs(is_certified(("hangs", idle, (3, 0)), False, ask(0, 0, 0, ask(5, 0, 1, ask(3, 0, 1, 1)))), False)
+        self.assertIs(is_certified(("hangs", idle, (3, 0)), False, ask(0, 0, 0, ask(5, 0, 1, ask(3, 1, 1, 1)))), False)
+        self.assertIs(is_certified(("hangs", idle, (3, 0)), False, ask(0, 0, 0, ask(5, 0, 1, ask(4, 0, 1, 1)))), True)
         self.assertIs(is_certified(("hangs", idle, (3, 0)), False, certified(("hangs", idle, (3, 0)))[1]), True)
 
     def test_share(self):
