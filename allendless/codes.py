@@ -1,4 +1,4 @@
-"""Searchable kinds: their elements are rows of digits, so what is asked of all rows is asked of all elements."""
+"""Searchable kinds: what is of them is told by rows of digits, so all rows stand for all that is of a kind."""
 
 from math import isqrt
 
