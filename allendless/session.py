@@ -88,16 +88,18 @@ class Session:
     def closed(self, term):
         """The term with the terms of all definitions in the place of their names, plainly named."""
         known = {name: True for name, _ in self.now}
-        for name in free_names(term):
+        free = free_names(term)
+        for name in free:
             if name not in known:
                 raise Unknown(name)
         made = term
-        for name, told in self.now[::-1]:
-            # Putting in makes no term smaller, so what is too great already stays so.
-            _check_bounds(made)
-            if name in free_names(made):
-                made = put_in(made, name, told)
         _check_bounds(made)
+        for name, told in self.now[::-1]:
+            if name in free:
+                made = put_in(made, name, told)
+                # Putting in makes no term smaller, so what is too great already stays so.
+                _check_bounds(made)
+                free = free_names(made)
         made = plainly_named(made)
         kind_of(made, ())
         return made

@@ -281,6 +281,10 @@ class ClosedTest(unittest.TestCase):
         for i in range(300):
             session.define(f"n{i}", ("var", f"n{i - 1}") if i else ONE)
         self.assertEqual(session.closed(("var", "n299")), ONE)
+        for i in range(300, 2000):
+            session.define(f"n{i}", ("var", "n7"))
+        self.assertEqual(len(session), 2000)
+        self.assertEqual(session.closed(read_term("n1999 + n8")), read_term("1 + 1"))
         # Each is twice the one ahead: the closed forms of what comes behind would be far too great.
         session = session_of(("a", "1"))
         for name, last in zip("bcdefg", "abcdef"):

@@ -11,7 +11,7 @@ from allendless.states import is_state_turner, least_states, parting_word, same_
 from allendless.turners import entry_program, entry_tree, needs
 from allendless.ways import is_small
 from tests.filling import ask
-from tests.wrong import told_by, what_of
+from tests.wrong import told_by
 
 # Tells 1 for an entry that is unlike the one ahead, 0 ahead of the first one.
 CHANGE = (2, 2, (((0, 0), (1, 1)), ((1, 0), (0, 1))))
